@@ -61,6 +61,7 @@ class DivisorsOf(unittest.TestCase):
     def test_sizes_somewhat_beyond(self):
         self.assertEqual(divisors_of(0), [])
         self.assertEqual(len(divisors_of(9)), 256)
+        self.assertEqual(len(divisors_of(16)), 2 ** 15)
         self.assertEqual(divisors_of(17), [])
 
     def test_a_told_list_is_the_askers_own(self):
