@@ -41,10 +41,10 @@ def raised_rest(divisor, base, n):
     square = base
     left = n
     while left > 0:
-        if left & 1 == 1:
+        if left % 2 == 1:
             power = rest_of(times_rows(power, square), divisor)
         square = rest_of(times_rows(square, square), divisor)
-        left = left >> 1
+        left = left // 2
     return power
 
 
