@@ -1,5 +1,6 @@
 """Rests moved forth and back (point 12)."""
 
+from checkrows.checks import bit_step
 from checkrows.division import rest_of
 from checkrows.divisors import need_divisor, power_rest, raised_rest
 from checkrows.sums import times_rows
@@ -17,3 +18,8 @@ def moved_rest(divisor, rest, n):
     need_divisor(divisor)
     power = power_rest(divisor, n) if n >= 0 else back_power(divisor, -n)
     return rest_of(times_rows(rest, power), divisor)
+
+
+def moved_on(divisor, rest):
+    """The rest moved by 1, without the squares: for those who walk all rests in turn."""
+    return bit_step(divisor, rest, 0)

@@ -11,6 +11,11 @@ def is_number(thing):
     return isinstance(thing, int) and not isinstance(thing, bool)
 
 
+def is_tuple_of(thing, many):
+    """Whether a thing is a tuple of so many things."""
+    return isinstance(thing, tuple) and len(thing) == many
+
+
 def is_bit(thing):
     """Whether a thing is a bit."""
     return is_number(thing) and thing in (0, 1)

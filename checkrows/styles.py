@@ -2,12 +2,12 @@
 
 from checkrows.divisors import is_divisor, size_of
 from checkrows.errors import NoStyle
-from checkrows.rows import is_row
+from checkrows.rows import is_row, is_tuple_of
 
 
 def is_style(thing):
     """Whether a thing, whatever it is, is a style."""
-    if not isinstance(thing, tuple) or len(thing) != 3:
+    if not is_tuple_of(thing, 3):
         return False
     divisor, begin, end = thing
     if not is_divisor(divisor) or not is_row(begin) or not is_row(end):

@@ -89,11 +89,27 @@ def plain_row(thing):
     return type(thing) is tuple and all(type(bit) is int and bit in (0, 1) for bit in thing)
 
 
+def asked(case, ask, *handed):
+    """What is told, of plain kinds, with what was handed in as it was."""
+    before = repr(handed)
+    told = ask(*handed)
+    case.assertEqual(repr(handed), before)
+    case.assertTrue(plain(told), told)
+    return told
+
+
 def assert_refused(case, error, ask, *handed):
-    """Refused with that class itself, not one beneath it."""
+    """Refused with that class itself, not one beneath it, and what was handed in as it was."""
+    before = repr(handed)
     try:
         told = ask(*handed)
     except error as caught:
         case.assertIs(type(caught), error, handed)
+        case.assertEqual(repr(handed), before)
         return
     case.fail(f"{ask.__name__}{handed!r:.200} told {told!r:.200}")
+
+
+def exchanged(row, *places):
+    """The row with its bits at these places changed."""
+    return tuple(1 - bit if at in places else bit for at, bit in enumerate(row))
