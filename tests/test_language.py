@@ -85,10 +85,35 @@ class Language(unittest.TestCase):
         for name, tree in trees():
             imported = [a.name for node in ast.walk(tree) if isinstance(node, ast.ImportFrom) for a in node.names]
             for bound in bound_names(tree):
+                if bound == "__init__":
+                    continue
                 self.assertFalse(bound.startswith("_"), (name, bound))
                 self.assertFalse(hasattr(builtins, bound), (name, bound))
                 self.assertNotIn(bound, BARRED_NAMES, name)
                 self.assertNotIn(bound, imported, name)
+
+    def test_methods_and_attributes_are_called_otherwise(self):
+        methods, kept = set(), set()
+        for name, tree in trees():
+            for node in ast.walk(tree):
+                if isinstance(node, ast.ClassDef):
+                    methods |= {part.name for part in node.body if isinstance(part, ast.FunctionDef)}
+                if isinstance(node, ast.Attribute) and isinstance(node.ctx, ast.Store):
+                    kept.add(node.attr)
+        self.assertEqual(methods & kept, set())
+        for word in methods | kept:
+            for kind in [str, int, list, dict, set, bytes]:
+                self.assertFalse(word != "__init__" and hasattr(kind, word), word)
+
+    def test_no_two_files_import_from_each_other(self):
+        needs = {}
+        for name, tree in trees():
+            needs[name[:-3]] = {node.module[10:] for node in ast.walk(tree) if isinstance(node, ast.ImportFrom)}
+        while needs:
+            free = [name for name in needs if not needs[name] & set(needs)]
+            self.assertNotEqual(free, [], sorted(needs))
+            for name in free:
+                del needs[name]
 
     def test_builtins(self):
         for name, tree in trees():
