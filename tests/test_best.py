@@ -88,3 +88,4 @@ class BestOf(unittest.TestCase):
         for size in range(1, 6):
             for length in range(size + 1):
                 self.assertEqual(asked(self, best_of, size, length), (0, divisors_of(size)))
+        self.assertEqual(asked(self, best_of, 0, 4), (0, []))

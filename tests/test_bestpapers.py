@@ -72,7 +72,7 @@ class BestPaper(unittest.TestCase):
     def test_somewhat_beyond(self):
         for size, length in [(6, 7), (5, 17), (6, 17)]:
             self.assertIs(lets_best(size, length, asked(self, best_paper, size, length)), True)
-        for size in range(1, 6):
+        for size in range(6):
             for length in range(size + 1):
                 self.assertIsNone(best_paper(size, length))
 

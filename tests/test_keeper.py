@@ -190,7 +190,8 @@ class BackAndAgain(Told):
 
     def test_deeds_that_change_nothing_are_deeds(self):
         row = (1, 0, 1, 1)
-        for name, handed in [("put", ((),)), ("off", (0,)), ("change", (4, ())), ("change", (0, ())), ("change", (0, row))]:
+        for name, handed in [("put", ((),)), ("off", (0,)), ("change", (4, ())), ("change", (0, ())),
+                             ("change", (0, row))]:
             keeper = Keeper(STYLE, row)
             keeper.put((1,))
             keeper.back()
